@@ -10,25 +10,12 @@ import (
 
 // Worth answers what a cell is worth, given a row of each source: a value, or a truth.
 func Worth(c scope.Cell, rows [][]api.Value) (api.Value, int, api.Errno) {
-	if truthful(c) {
+	if scope.Truthful(c) {
 		truth, e := truthOf(c, rows)
 		return api.Value{}, truth, e
 	}
 	v, e := valueOf(c, rows)
 	return v, 0, e
-}
-
-// truthful tells whether a cell is a truth.
-func truthful(c scope.Cell) bool {
-	switch c.Kind {
-	case expr.KindTest:
-		return true
-	case expr.KindUnary:
-		return c.Op == "NOT"
-	case expr.KindBinary:
-		return c.Op != "+" && c.Op != "-" && c.Op != "*"
-	}
-	return false
 }
 
 // parts tells whether a cell has so many parts.
@@ -46,7 +33,7 @@ func valueOf(c scope.Cell, rows [][]api.Value) (api.Value, api.Errno) {
 			return api.Value{}, e
 		}
 		return reckoned("-", api.Value{Kind: api.Int}, v)
-	case c.Kind == expr.KindBinary && !truthful(c):
+	case c.Kind == expr.KindBinary && !scope.Truthful(c):
 		a, b, e := bothOf(c, rows)
 		if e != api.OK {
 			return api.Value{}, e
@@ -98,7 +85,7 @@ func unfit(e api.Errno) api.Errno {
 
 func truthOf(c scope.Cell, rows [][]api.Value) (int, api.Errno) {
 	switch {
-	case !truthful(c):
+	case !scope.Truthful(c):
 		return 0, api.ErrArg
 	case c.Kind == expr.KindTest:
 		return testOf(c, rows)

@@ -136,6 +136,18 @@ func TestSums(t *testing.T) {
 	}
 }
 
+func TestTruthful(t *testing.T) {
+	for _, s := range []string{"1", "'a'", "NULL", "a", "-a", "a + 1", "a = 1", "NOT a = 1", "a IS NULL", "a = 1 AND c = 2", "a = 1 OR c = 2"} {
+		c, kind, e := Value(tables(), []int{0}, ex(t, s))
+		if e != api.OK || Truthful(c) != (kind == Truth) {
+			t.Error(s, e)
+		}
+	}
+	if Truthful(Cell{}) || Truthful(Cell{Kind: 6, Op: "COUNT"}) {
+		t.Error("no truths")
+	}
+}
+
 func TestSame(t *testing.T) {
 	l := []Cell{{}, {Kind: 1}, {Kind: 1, V: api.Value{Kind: 1, N: 1}}, {Kind: 1, V: api.Value{Kind: 2, S: "a"}}, {Kind: 2}, {Kind: 2, Source: 1}, {Kind: 2, Column: 1}, {Kind: 3, Op: "-"}, {Kind: 3, Op: "NOT"}, {Kind: 3, Op: "-", Parts: []Cell{{}}}, {Kind: 3, Op: "-", Parts: []Cell{{Kind: 2}}}, {Kind: 3, Op: "-", Parts: []Cell{{}, {}}}}
 	for i, a := range l {
