@@ -52,7 +52,9 @@ func good() []Object {
 	any := view("v", "t", "u")
 	any.Columns = []api.Column{{Name: "α"}, {Name: "b", Kind: 2}}
 	any.Text = strings.Repeat("\xff", 1000)
-	return []Object{table("t", "a"), table("αω_9", eight()...), bound, index("i", "t", 0), unique, index("i", "i", 0, 1, 2, 3, 4, 5, 6, 7), view("v", "t"), any}
+	short := view("v", "t")
+	short.Text = "S"
+	return []Object{short, table("t", "a"), table("αω_9", eight()...), bound, index("i", "t", 0), unique, index("i", "i", 0, 1, 2, 3, 4, 5, 6, 7), view("v", "t"), any}
 }
 
 func bad() []Object {
@@ -140,7 +142,7 @@ func TestDecodeWrong(t *testing.T) {
 		}
 	}
 	// Whatever byte is another one, it is another object, or none.
-	pieces, _ := Encode(good()[2])
+	pieces, _ := Encode(good()[3])
 	for i := range pieces[0] {
 		for _, c := range []byte{0, 1, 2, 0x7f, 0x80, 0xff} {
 			changed := bytes.Clone(pieces[0])
@@ -148,7 +150,7 @@ func TestDecodeWrong(t *testing.T) {
 				continue
 			}
 			changed[i] = c
-			if o, e := Decode([][]byte{changed}); e == api.OK && same(o, good()[2]) || e != api.OK && !same(o, Object{}) {
+			if o, e := Decode([][]byte{changed}); e == api.OK && same(o, good()[3]) || e != api.OK && !same(o, Object{}) {
 				t.Error(i, c, o, e)
 			}
 		}
@@ -301,9 +303,9 @@ func TestNothingIsShared(t *testing.T) {
 	if !same(l[0], table("t", "a", "b")) || !same(l[1], index("i", "t", 0)) || !same(l[2], view("v", "t")) {
 		t.Error(l)
 	}
-	pieces, _ := Encode(good()[7])
+	pieces, _ := Encode(good()[8])
 	_ = append(pieces[0], 'x')
-	if back, e := Decode(pieces); !same(back, good()[7]) || e != api.OK {
+	if back, e := Decode(pieces); !same(back, good()[8]) || e != api.OK {
 		t.Error("pieces share their memory")
 	}
 }

@@ -297,6 +297,12 @@ func TestLoad(t *testing.T) {
 	if got := entries(v.Entries()); got != want {
 		t.Error("shared:", got)
 	}
+	// Keys that are too short, or no values at all, are loaded as they are; what isn't there is told as NULL.
+	two := view(t, "SELECT a, b, COUNT(*) FROM t GROUP BY a, b")
+	check(t, "load", two.Load([]Entry{{nil, 1, []Sum{{1, 0}}}, {row("1"), 2, []Sum{{2, 0}}}}), api.OK)
+	if got, e := two.Rows(); shown(got) != "N N 1; 1 N 2" || e != api.OK {
+		t.Error(shown(got), e)
+	}
 	check(t, "load nothing", v.Load(nil), api.OK)
 	if len(v.Entries()) != 0 {
 		t.Error("entries are left")

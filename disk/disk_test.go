@@ -102,6 +102,7 @@ func TestRoom(t *testing.T) {
 	check(t, "just enough", d.Write(0, 0, []byte("ab")), api.OK)
 	check(t, "one more", d.Write(0, 2, []byte("c")), api.ErrFull)
 	check(t, "one more, from within", d.Write(0, 1, []byte("bc")), api.ErrFull)
+	check(t, "one more in the other file", d.Write(1, 2, []byte("c")), api.ErrFull)
 	check(t, "nothing more", d.Write(0, 2, nil), api.OK)
 	check(t, "above the size", d.Write(0, 3, []byte("abc")), api.ErrArg)
 	d.SetRoom(1)

@@ -57,7 +57,7 @@ func written() map[string]Expr {
 		"-a": un("-", a), "-(-a)": un("-", un("-", a)), "-(-(-1))": un("-", un("-", un("-", num(1)))), "a - -b": bin("-", a, un("-", b)), "-a * b": bin("*", un("-", a), b), "a * -b": bin("*", a, un("-", b)), "-(a * b)": un("-", bin("*", a, b)), "-(a + b)": un("-", bin("+", a, b)), "-(NOT a)": un("-", un("NOT", a)), "-COUNT(*)": un("-", agg("COUNT")), "-a IS NULL": test("IS NULL", un("-", a)), "-t.a - 1": bin("-", un("-", of("t", "a")), num(1)),
 		"a = b": bin("=", a, b), "a <> b": bin("<>", a, b), "a <= b": bin("<=", a, b), "a > b": bin(">", a, b), "a >= b": bin(">=", a, b), "a + b = b + c": bin("=", bin("+", a, b), bin("+", b, c)),
 		"MIN(MAX(a)) + COUNT(b = c)":    bin("+", agg("MIN", agg("MAX", a)), agg("COUNT", bin("=", b, c))),
-		"NOT NOT NOT NOT NOT NOT NOT a": nots(8),
+		"NOT NOT NOT NOT NOT NOT NOT a": nots(8), "'" + strings.Repeat("x", api.MaxText) + "'": text(strings.Repeat("x", api.MaxText)),
 	}
 }
 

@@ -195,6 +195,8 @@ func TestRun(t *testing.T) {
 		"SELECT COUNT(*), SUM(a + d) FROM t JOIN u ON a = d":                                     "5 14",
 		"SELECT e, COUNT(*) FROM u JOIN t ON d = a GROUP BY e ORDER BY COUNT(*) DESC, e LIMIT 2": "k 2; m 2",
 		"SELECT DISTINCT a FROM t JOIN w ON 1 = 1 ORDER BY a DESC":                               "3; 2; 1; N",
+		"SELECT a, e FROM t JOIN u ON a = d ORDER BY e DESC":                                     "1 m; 1 m; 3 l; 1 k; 1 k",
+		"SELECT MAX(e), f FROM w JOIN u ON 1 = 1 GROUP BY f ORDER BY MIN(e), f DESC":             "n 2; n 1",
 		"SELECT * FROM w JOIN u ON f = d":                                                        "1 1 k; 1 1 m",
 		"SELECT f FROM w WHERE 1 = 2":                                                            "",
 	} {
@@ -229,7 +231,16 @@ func TestRunWrong(t *testing.T) {
 			t.Error(e)
 		}
 	}
+	// A plan of no right sources is none, whatever is asked of them.
+	b.insert(1, "1 k")
+	q, tables, _ = b.query("SELECT a FROM t JOIN u ON 1 = 1")
+	for _, order := range [][]int{{0, 2}, {2, 0}, {-1, 0}, {0, -1}, {1, 1}} {
+		if got, e := Run(b.p, q, tables, Plan{order, []int{-1, -1}}); len(got) != 0 || e != api.ErrArg {
+			t.Error(order, got, e)
+		}
+	}
 	// Where a condition may run over, there is one plan.
+	q, tables, _ = b.query("SELECT a FROM t JOIN u ON a = d WHERE b = 'x'")
 	q, tables, _ = b.query("SELECT a FROM t JOIN u ON a = d WHERE a + 1 > 0")
 	for _, p := range plans(q, tables) {
 		want := api.ErrArg
@@ -264,26 +275,33 @@ func TestOver(t *testing.T) {
 	}
 }
 
+// Combinations are counted ahead of looking at them.
 func TestLarge(t *testing.T) {
-	b := newBase(t)
-	for i := range api.MaxRows {
-		b.insert(0, strconv.Itoa(i)+" x 1")
-	}
-	s := "SELECT COUNT(*) FROM t AS x JOIN t AS y ON x.a = y.a JOIN t AS z ON x.a = z.a"
-	q, tables, _ := b.query(s)
-	if got, e := Run(b.p, q, tables, Make(q, tables)); shown(got) != "30" || e != api.OK {
-		t.Error(got, e)
-	}
-	// A fourth source makes it 810000 combinations; without rows it has none.
-	q.Sources = append(q.Sources, 0)
-	four := append(tables, tables[0])
-	plain := Plan{[]int{0, 1, 2, 3}, []int{-1, -1, -1, -1}}
-	if got, e := Run(b.p, q, four, plain); len(got) != 0 || e != api.ErrLarge {
-		t.Error(got, e)
-	}
-	four[3] = b.tables[1]
-	if got, e := Run(b.p, q, four, plain); shown(got) != "0" || e != api.OK {
-		t.Error(got, e)
+	for _, c := range []struct {
+		sizes []int
+		e     api.Errno
+	}{{[]int{30, 30, 30}, api.OK}, {[]int{10, 10, 10, 10, 10}, api.OK}, {[]int{30, 30, 30, 3}, api.OK}, {[]int{30, 30, 30, 4}, api.ErrLarge}, {[]int{30, 30, 30, 4, 1}, api.ErrLarge}, {[]int{1, 30, 30, 30, 30, 30, 30, 30, 30, 30, 30, 30, 30, 30, 30, 30}, api.ErrLarge}, {[]int{30, 30, 30, 30, 0}, api.OK}, {[]int{0, 30, 30, 30, 30}, api.OK}} {
+		b := newBase(t)
+		q, _, _ := b.query("SELECT COUNT(*) FROM w WHERE 1 = 2")
+		q.Sources = nil
+		var tables []rows.Table
+		plain := Plan{}
+		for i, size := range c.sizes {
+			root, e := tree.Create(b.p)
+			check(t, "create", e, api.OK)
+			table := b.tables[2]
+			table.Root = root
+			for k := range size {
+				_, e := rows.Insert(b.p, table, of(strconv.Itoa(k)))
+				check(t, "insert", e, api.OK)
+			}
+			tables, q.Sources = append(tables, table), append(q.Sources, i)
+			plain.Order, plain.Index = append(plain.Order, i), append(plain.Index, -1)
+		}
+		got, e := Run(b.p, q, tables, plain)
+		if e != c.e || e == api.OK && shown(got) != "0" || e != api.OK && len(got) > 0 {
+			t.Error(c, shown(got), e)
+		}
 	}
 }
 

@@ -44,12 +44,6 @@ func Match(p *pager.Pager, q scope.Query, tables []rows.Table) ([]rows.Row, api.
 	for i, c := range r.found {
 		list[i] = c[0]
 	}
-	slices.SortFunc(list, func(a, b rows.Row) int {
-		if a.ID < b.ID {
-			return -1
-		}
-		return 1
-	})
 	return list, api.OK
 }
 
@@ -155,7 +149,7 @@ func (r *runner) asked(at int) (bool, api.Errno) {
 	return true, api.OK
 }
 
-// candidates answers the rows that a source may have, as the plan seeks them.
+// candidates answers the rows that a source may have, as the plan seeks them, by their numbers.
 func (r *runner) candidates(source, at int) ([]rows.Row, api.Errno) {
 	index := r.plan.Index[at]
 	if index == all {

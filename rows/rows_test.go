@@ -337,13 +337,17 @@ func TestBuild(t *testing.T) {
 	}
 }
 
-// errors are what all calls answer.
-func errors(p *pager.Pager, table Table) []api.Errno {
-	_, a := Insert(p, table, of("1 x y"))
-	_, b := Delete(p, table, 1)
-	_, _, c := Get(p, table, 1)
-	_, d := All(p, table)
-	_, e := Seek(p, table, 0, of("1"))
+// errors are what all calls answer; beside them they answer nothing.
+func errors(t *testing.T, p *pager.Pager, table Table) []api.Errno {
+	t.Helper()
+	id, a := Insert(p, table, of("1 x y"))
+	gone, b := Delete(p, table, 1)
+	values, there, c := Get(p, table, 1)
+	list, d := All(p, table)
+	numbers, e := Seek(p, table, 0, of("1"))
+	if id != 0 || gone || values != nil || there || list != nil || numbers != nil {
+		t.Error("something beside an error")
+	}
 	return []api.Errno{a, b, c, d, e, Put(p, table, Row{1, of("1 x y")}), Build(p, table, 0)}
 }
 
@@ -354,7 +358,7 @@ func TestErrors(t *testing.T) {
 	junk, _ := p.Take()
 	bad := table
 	bad.Root, bad.Indexes = junk, []Index{{Root: junk, Keys: []int{0}}}
-	for what, l := range map[string][]api.Errno{"1": errors(nil, table), "9": errors(p, none), "17": errors(p, bad)} {
+	for what, l := range map[string][]api.Errno{"1": errors(t, nil, table), "9": errors(t, p, none), "17": errors(t, p, bad)} {
 		for i, e := range l {
 			if strconv.Itoa(int(e)) != what {
 				t.Error(what, i, e)
@@ -366,7 +370,7 @@ func TestErrors(t *testing.T) {
 	root, _ := tree.Create(q)
 	d.SetFuse(0)
 	check(t, "commit", q.Commit(), api.ErrDisk)
-	for i, e := range errors(q, Table{Root: root, Columns: table.Columns, Indexes: []Index{{Root: root, Keys: []int{0}}}}) {
+	for i, e := range errors(t, q, Table{Root: root, Columns: table.Columns, Indexes: []Index{{Root: root, Keys: []int{0}}}}) {
 		if e != api.ErrDisk {
 			t.Error(i, e)
 		}
@@ -394,11 +398,11 @@ func TestBad(t *testing.T) {
 		}
 		check(t, "put", Put(p, table, Row{3, of("1 x y")}), api.ErrBad)
 		if i < 2 {
-			if _, _, e := Get(p, table, 1); e != api.ErrBad {
-				t.Error(i, e)
+			if l, ok, e := Get(p, table, 1); l != nil || ok || e != api.ErrBad {
+				t.Error(i, ok, e)
 			}
-			if _, e := Delete(p, table, 1); e != api.ErrBad {
-				t.Error(i, e)
+			if ok, e := Delete(p, table, 1); ok || e != api.ErrBad {
+				t.Error(i, ok, e)
 			}
 		}
 	}
@@ -414,8 +418,18 @@ func TestBad(t *testing.T) {
 	root, _ := tree.Create(p)
 	table.Indexes = []Index{{Root: root, Keys: []int{0}}}
 	check(t, "a row of too few values", Build(p, table, 0), api.ErrBad)
-	if _, e := Delete(p, table, 1); e != api.ErrBad {
-		t.Error(e)
+	if ok, e := Delete(p, table, 1); ok || e != api.ErrBad {
+		t.Error(ok, e)
+	}
+	// Where an index doesn't lie, its table's calls end there.
+	p, table = newTable(t, Index{Keys: []int{0}, Unique: true})
+	insert(t, p, table, "1 x y")
+	table.Indexes[0].Root = 999
+	if ok, e := Delete(p, table, 1); ok || e != api.ErrNone {
+		t.Error(ok, e)
+	}
+	if id, e := Insert(p, table, of("1 x y")); id != 0 || e != api.ErrNone {
+		t.Error(id, e)
 	}
 }
 

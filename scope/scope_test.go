@@ -177,6 +177,7 @@ func TestResolve(t *testing.T) {
 		{s: "SELECT COUNT(*) FROM t", sources: "[0]", items: "(6COUNT)", names: ";", kinds: "[1]", grouped: true, limit: -1},
 		{s: "SELECT a, COUNT(b) AS n, SUM(c), MIN(b), MAX(a) + 1 FROM t GROUP BY a", sources: "[0]", group: "0.0", items: "0.0, (6COUNT 0.1), (6SUM 0.2), (6MIN 0.1), (4+ (6MAX 0.0) 1)", names: "a;n;;;;", kinds: "[1 1 1 2 1]", grouped: true, limit: -1},
 		{s: "SELECT a + 1, (a + 1) * 2, 7 FROM t GROUP BY a + 1, b ORDER BY b, SUM(a) DESC", sources: "[0]", group: "(4+ 0.0 1), 0.1", items: "(4+ 0.0 1), (4* (4+ 0.0 1) 2), 7", names: ";;;", kinds: "[1 1 1]", order: "0.1, (6SUM 0.0) DESC", grouped: true, limit: -1},
+		{s: "SELECT MAX(b), MIN(c) FROM t", sources: "[0]", items: "(6MAX 0.1), (6MIN 0.2)", names: ";;", kinds: "[2 1]", grouped: true, limit: -1},
 		{s: "SELECT 1 FROM t ORDER BY COUNT(*)", sources: "[0]", items: "1", names: ";", kinds: "[1]", order: "(6COUNT)", grouped: true, limit: -1},
 		{s: "SELECT t.a FROM t GROUP BY a", sources: "[0]", group: "0.0", items: "0.0", names: "a;", kinds: "[1]", grouped: true, limit: -1},
 		{s: "SELECT NULL AS x, MIN(n), SUM(n), COUNT(n) FROM v", sources: "[2]", items: "NULL, (6MIN 0.0), (6SUM 0.0), (6COUNT 0.0)", names: "x;;;;", kinds: "[0 0 1 1]", grouped: true, limit: -1},

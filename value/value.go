@@ -143,8 +143,8 @@ func times(a, b int64) (int64, bool) {
 	if a == 0 || b == 0 {
 		return 0, true
 	}
-	// The one quotient that doesn't fit would wrap round and look right.
-	if a == -1 && b == math.MinInt64 || b == -1 && a == math.MinInt64 {
+	// Here the quotient below would wrap round, too, and look right.
+	if b == -1 && a == math.MinInt64 {
 		return 0, false
 	}
 	n := a * b
