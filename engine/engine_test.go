@@ -11,6 +11,7 @@ import (
 	"wainscot/catalog"
 	"wainscot/delta"
 	"wainscot/disk"
+	"wainscot/keys"
 	"wainscot/pager"
 	"wainscot/rows"
 	"wainscot/tree"
@@ -583,4 +584,212 @@ func TestAsTheModel(t *testing.T) {
 			break
 		}
 	}
+}
+
+func TestTextOfAView(t *testing.T) {
+	e := newEngine(t)
+	run(t, e, "CREATE TABLE t (a INT, b TEXT)")
+	// The view's text is what stands behind AS.
+	query := "SELECT a"
+	for i := range 7 {
+		query += ", '" + x(100) + "' AS k" + strconv.Itoa(i)
+	}
+	query += " FROM t WHERE b <> '" + x(99) + "' AND b <> '"
+	for size := 998; size <= 1002; size++ {
+		s := query + x(size-len(query)-1) + "'"
+		if len(s) != size {
+			t.Fatal(len(s))
+		}
+		want := api.OK
+		if size > 1000 {
+			want = api.ErrLarge
+		}
+		_, errno := e.Exec("CREATE MATERIALIZED VIEW v AS " + s)
+		check(t, strconv.Itoa(size), errno, want)
+		if want == api.OK {
+			if o := e.Objects()[1]; o.Text != s {
+				t.Error(o.Text)
+			}
+			run(t, e, "DROP VIEW v")
+		}
+	}
+}
+
+func TestUniqueColumns(t *testing.T) {
+	d := disk.New(1 << 20)
+	e := open(t, d, 10)
+	run(t, e, "CREATE TABLE t (a INT, b INT UNIQUE, c INT, d INT UNIQUE)", "INSERT INTO t VALUES (1, 1, 1, 1), (1, 2, 1, 2), (1, NULL, 1, NULL), (1, NULL, 1, NULL)")
+	for range 2 {
+		for _, s := range []string{"INSERT INTO t VALUES (2, 1, 2, 9)", "INSERT INTO t VALUES (2, 9, 2, 2)", "UPDATE t SET d = 1 WHERE b = 2", "UPDATE t SET b = d"} {
+			_, errno := e.Exec(s)
+			want := api.ErrUnique
+			if s == "UPDATE t SET b = d" {
+				want = api.OK
+			}
+			check(t, s, errno, want)
+		}
+		e = open(t, d, 10)
+	}
+}
+
+func TestFullTableIsOpened(t *testing.T) {
+	d := disk.New(1 << 20)
+	e := open(t, d, 10)
+	run(t, e, "CREATE TABLE t (a INT UNIQUE)", "CREATE MATERIALIZED VIEW v AS SELECT a FROM t")
+	for i := range api.MaxRows {
+		run(t, e, "INSERT INTO t VALUES ("+strconv.Itoa(i)+")")
+	}
+	_, errno := e.Exec("INSERT INTO t VALUES (99)")
+	check(t, "one row more", errno, api.ErrFull)
+	run(t, e, "UPDATE t SET a = a + 1")
+	if a := run(t, open(t, d, 10), "SELECT COUNT(*), SUM(a) FROM v"); shown(a.Rows) != "30 465" {
+		t.Error(shown(a.Rows))
+	}
+}
+
+// An entry's value may make it too large, though its key isn't.
+func TestLargeValue(t *testing.T) {
+	e := newEngine(t)
+	run(t, e, "CREATE TABLE t (a TEXT, b INT)")
+	sums := "SUM(b) AS s1, SUM(b - 1) AS s2, SUM(b - 2) AS s3, SUM(b - 3) AS s4, SUM(b - 4) AS s5, SUM(b - 5) AS s6"
+	run(t, e, "CREATE MATERIALIZED VIEW v AS SELECT a, "+sums+" FROM t GROUP BY a", "INSERT INTO t VALUES ('"+x(100)+"', 5)", "INSERT INTO t VALUES ('x', 9223372036854775807)")
+	_, errno := e.Exec("INSERT INTO t VALUES ('" + x(100) + "', 9000000000000000000)")
+	check(t, "insert", errno, api.ErrLarge)
+	_, errno = e.Exec("UPDATE t SET b = 9000000000000000000")
+	check(t, "update", errno, api.ErrLarge)
+	run(t, e, "DROP VIEW v", "UPDATE t SET b = 9000000000000000000")
+	_, errno = e.Exec("CREATE MATERIALIZED VIEW v AS SELECT a, " + sums + " FROM t GROUP BY a")
+	check(t, "create", errno, api.ErrLarge)
+	noPageIsLost(t, "behind errors", e)
+}
+
+func TestCombinationsOfViews(t *testing.T) {
+	e := newEngine(t)
+	run(t, e, "CREATE TABLE t (a INT)", "CREATE TABLE u (b INT)", "CREATE TABLE none (c INT)", "CREATE TABLE one (d INT)", "INSERT INTO one VALUES (1)", "CREATE MATERIALIZED VIEW v AS SELECT a, b FROM t JOIN u ON 1 = 1")
+	for i := range 10 {
+		run(t, e, "INSERT INTO t VALUES ("+strconv.Itoa(i)+")", "INSERT INTO u VALUES ("+strconv.Itoa(i)+")")
+	}
+	three := func(name string) string {
+		return "SELECT COUNT(*) FROM v AS x JOIN v AS y ON 1 = 2 JOIN " + name + " ON 1 = 2"
+	}
+	run(t, e, three("t"), three("one"), three("none"))
+	run(t, e, "INSERT INTO one VALUES (2), (3), (4), (5), (6), (7), (8), (9), (10)", three("one"), "INSERT INTO one VALUES (11)")
+	_, errno := e.Exec(three("one"))
+	check(t, "110000 combinations", errno, api.ErrLarge)
+	run(t, e, three("none"))
+	_, errno = e.Exec("SELECT COUNT(*) FROM v AS x JOIN v AS y ON 1 = 2 JOIN v AS z ON 1 = 2")
+	check(t, "1000000 combinations", errno, api.ErrLarge)
+	run(t, e, "DELETE FROM one WHERE d > 1")
+	for i := range 20 {
+		run(t, e, "INSERT INTO t VALUES ("+strconv.Itoa(i)+")", "INSERT INTO u VALUES ("+strconv.Itoa(i)+")")
+	}
+	_, errno = e.Exec(three("one"))
+	check(t, "810000 combinations", errno, api.ErrLarge)
+}
+
+// crafted is a disk whose pages an engine wrote, but for a change.
+func crafted(t *testing.T, change func(e *Engine)) *disk.Disk {
+	t.Helper()
+	d := disk.New(1 << 20)
+	e := open(t, d, 10)
+	run(t, e, "CREATE TABLE t (a INT UNIQUE, b TEXT)", "INSERT INTO t VALUES (1, 'x'), (2, 'y')", "CREATE INDEX i ON t (b)", "CREATE MATERIALIZED VIEW v AS SELECT b, COUNT(*) AS n, SUM(a) AS s FROM t GROUP BY b", "CREATE TABLE u (b TEXT)", "CREATE UNIQUE INDEX j ON u (b)")
+	change(e)
+	check(t, "commit", e.p.Commit(), api.OK)
+	return d
+}
+
+// rewrite lets an object be another one in the engine's own tree.
+func rewrite(t *testing.T, e *Engine, name string, change func(o *catalog.Object)) {
+	t.Helper()
+	o, _ := e.catalog.Find(name)
+	old, _ := catalog.Encode(o)
+	change(&o)
+	pieces, errno := catalog.Encode(o)
+	check(t, "encode", errno, api.OK)
+	for i := range old {
+		key, _ := pieceKey(e.numbers[name], i)
+		check(t, "delete", e.deleteOwn(key), api.OK)
+	}
+	for i, piece := range pieces {
+		key, _ := pieceKey(e.numbers[name], i)
+		check(t, "put", e.putOwn(key, piece), api.OK)
+	}
+}
+
+// What lies in the pages may be trees, and yet not what an engine leaves.
+func TestOpenCrafted(t *testing.T) {
+	open(t, crafted(t, func(e *Engine) {}), 4)
+	open(t, crafted(t, func(e *Engine) { rewrite(t, e, "v", func(o *catalog.Object) {}) }), 4)
+	moved := func(e *Engine, root int) {
+		key, value, _, _ := tree.Last(e.p, root)
+		tree.Delete(e.p, root, key)
+		key[len(key)-1] += 7
+		check(t, "put", tree.Put(e.p, root, key, value), api.OK)
+	}
+	first := func(e *Engine, root int, change func(value []byte) []byte) {
+		key, value, _, _ := tree.Next(e.p, root, nil, true)
+		check(t, "put", tree.Put(e.p, root, key, change(value)), api.OK)
+	}
+	root := func(e *Engine, name string) int {
+		o, _ := e.catalog.Find(name)
+		return o.Root
+	}
+	own := func(e *Engine, value string, key ...api.Value) {
+		k, errno := keys.Key(key)
+		check(t, "key", errno, api.OK)
+		check(t, "put", e.putOwn(k, []byte(value)), api.OK)
+	}
+	word := func(s string) api.Value { return api.Value{Kind: api.Text, S: s} }
+	for i, change := range []func(e *Engine){
+		func(e *Engine) { moved(e, root(e, "i")) }, func(e *Engine) { moved(e, e.unnamed[place{"t", 0}]) }, func(e *Engine) { moved(e, root(e, "v")) },
+		func(e *Engine) {
+			table, _ := e.table("t")
+			table.Indexes[0].Unique = false
+			_, errno := rows.Insert(e.p, table, []api.Value{number(2), word("y")})
+			check(t, "insert", errno, api.OK)
+		},
+		func(e *Engine) {
+			table, _ := e.table("u")
+			table.Columns[0].Kind = api.Int
+			_, errno := rows.Insert(e.p, table, []api.Value{number(2)})
+			check(t, "insert", errno, api.OK)
+		},
+		func(e *Engine) {
+			table, _ := e.table("u")
+			for i := range api.MaxRows {
+				_, errno := rows.Insert(e.p, table, []api.Value{word(strconv.Itoa(i))})
+				check(t, "insert", errno, api.OK)
+			}
+			check(t, "put", tree.Put(e.p, table.Root, []byte("\x10\x80\x00\x00\x00\x00\x00\x00\x50"), []byte("\x01\x02\x01z")), api.OK)
+			check(t, "put", tree.Put(e.p, table.Indexes[0].Root, []byte("\x20z\x00\x00\x10\x80\x00\x00\x00\x00\x00\x00\x50"), nil), api.OK)
+		},
+		func(e *Engine) { first(e, root(e, "v"), func(b []byte) []byte { b[0]++; return b }) }, func(e *Engine) { first(e, root(e, "v"), func(b []byte) []byte { b[len(b)-1] += 2; return b }) }, func(e *Engine) { first(e, root(e, "v"), func(b []byte) []byte { return b[:len(b)-1] }) }, func(e *Engine) { first(e, root(e, "v"), func(b []byte) []byte { return nil }) }, func(e *Engine) { first(e, root(e, "v"), func(b []byte) []byte { return append(b, 1) }) }, func(e *Engine) { first(e, root(e, "v"), func(b []byte) []byte { return append(b, 1, 2) }) },
+		func(e *Engine) {
+			check(t, "put", tree.Put(e.p, root(e, "v"), []byte("junk"), []byte{1, 1, 1, 1, 1}), api.OK)
+		},
+		func(e *Engine) { rewrite(t, e, "v", func(o *catalog.Object) { o.Text = "BEGIN" }) }, func(e *Engine) { rewrite(t, e, "v", func(o *catalog.Object) { o.Text = "nonsense" }) }, func(e *Engine) { rewrite(t, e, "v", func(o *catalog.Object) { o.Text = "SELECT zzz FROM t" }) }, func(e *Engine) { rewrite(t, e, "v", func(o *catalog.Object) { o.Text = "SELECT DISTINCT b FROM t" }) }, func(e *Engine) { rewrite(t, e, "v", func(o *catalog.Object) { o.Columns[1].Name = "zzz" }) }, func(e *Engine) { rewrite(t, e, "v", func(o *catalog.Object) { o.Columns[1].Kind = 2 }) }, func(e *Engine) { rewrite(t, e, "v", func(o *catalog.Object) { o.Uses = []string{"u"} }) }, func(e *Engine) { rewrite(t, e, "v", func(o *catalog.Object) { o.Uses = []string{"t", "u"} }) }, func(e *Engine) {
+			rewrite(t, e, "v", func(o *catalog.Object) { o.Text = strings.ReplaceAll(o.Text, "SUM(a)", "SUM(a + 1)") })
+		},
+		func(e *Engine) { rewrite(t, e, "t", func(o *catalog.Object) { o.Columns[0].Unique = false }) }, func(e *Engine) { rewrite(t, e, "t", func(o *catalog.Object) { o.Columns[1].Unique = true }) }, func(e *Engine) { rewrite(t, e, "t", func(o *catalog.Object) { o.Columns[1].Kind = api.Int }) }, func(e *Engine) { rewrite(t, e, "t", func(o *catalog.Object) { o.Name = "w" }) }, func(e *Engine) { rewrite(t, e, "u", func(o *catalog.Object) { o.Name = "t" }) }, func(e *Engine) { rewrite(t, e, "i", func(o *catalog.Object) { o.Keys[0] = 0 }) }, func(e *Engine) { rewrite(t, e, "i", func(o *catalog.Object) { o.On = "zzz" }) }, func(e *Engine) { rewrite(t, e, "i", func(o *catalog.Object) { o.Root = root(e, "j") }) }, func(e *Engine) { rewrite(t, e, "u", func(o *catalog.Object) { o.Root = 9999 }) },
+		func(e *Engine) { own(e, "junk", number(99), number(0)) }, func(e *Engine) { own(e, "junk", number(1), number(1)) }, func(e *Engine) { own(e, "junk", number(1), number(7)) }, func(e *Engine) { own(e, "junk", number(1), number(-1)) }, func(e *Engine) { own(e, "junk", number(0), number(0)) }, func(e *Engine) { own(e, "", number(99), number(0)) }, func(e *Engine) { own(e, "junk", number(1)) }, func(e *Engine) { own(e, "junk", number(1), word("a")) }, func(e *Engine) { own(e, "junk", number(1), number(0), number(0)) }, func(e *Engine) { own(e, "junk", api.Value{}, number(0)) },
+		func(e *Engine) { own(e, "\x01", word("t"), number(1)) }, func(e *Engine) { own(e, "\x00", word("t"), number(0)) }, func(e *Engine) { own(e, "", word("t"), number(0)) }, func(e *Engine) { own(e, "\x80", word("t"), number(0)) }, func(e *Engine) { own(e, "\xce\x10", word("t"), number(0)) }, func(e *Engine) { own(e, "\x01\x00", word("t"), number(0)) }, func(e *Engine) { own(e, "\x01", word("zzz"), number(0)) }, func(e *Engine) { own(e, "\x01", word("t"), word("a")) }, func(e *Engine) { own(e, "\x01", word("t"), number(-1)) }, func(e *Engine) { own(e, "\x01", word("t"), number(8)) },
+	} {
+		if e, errno := Open(crafted(t, change), 10); e != nil || errno != api.ErrBad {
+			t.Error(i, errno)
+		}
+	}
+}
+
+// Without an object all may be gone but the engine's own tree.
+func TestOpenEmptied(t *testing.T) {
+	d := disk.New(1 << 20)
+	e := open(t, d, 10)
+	run(t, e, "CREATE TABLE t (a INT UNIQUE, b TEXT UNIQUE)", "CREATE INDEX i ON t (b)", "INSERT INTO t VALUES (1, 'x')", "DROP TABLE t")
+	noPageIsLost(t, "emptied", e)
+	e = open(t, d, 10)
+	noPageIsLost(t, "opened", e)
+	if reached, errno := e.Reach(); len(reached) != 1 || len(e.Objects()) != 0 || errno != api.OK {
+		t.Error(reached, e.Objects(), errno)
+	}
+	run(t, e, "CREATE TABLE t (a INT UNIQUE)")
 }

@@ -90,7 +90,6 @@ func (p *Pager) trim() api.Errno {
 
 // commit does what makes changes durable, step by step; ahead of the last one a crash leads back to the last commit.
 func (p *Pager) commit(c changes, records []int) api.Errno {
-	p.dropMark()
 	for _, step := range []func() api.Errno{
 		p.begin,
 		func() api.Errno { return p.record(records) },

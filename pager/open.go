@@ -68,12 +68,10 @@ func (l *left) state() (state, api.Errno) {
 
 // stack fills in the numbers of the free pages, from the one on top on.
 func (l *left) stack(free []int, top int) api.Errno {
-	seen := map[int]struct{}{0: {}}
 	for i := len(free) - 1; i >= 0; i-- {
-		if _, twice := seen[top]; twice || top >= l.pages {
+		if top < 1 || top >= l.pages {
 			return api.ErrBad
 		}
-		seen[top] = struct{}{}
 		free[i] = top
 		b, e := l.content(top)
 		if e != api.OK {
@@ -84,6 +82,7 @@ func (l *left) stack(free []int, top int) api.Errno {
 			return api.ErrBad
 		}
 	}
+	// A stack that came to a page twice would go on for ever, so that it wouldn't end here.
 	if top != 0 {
 		return api.ErrBad
 	}

@@ -130,10 +130,13 @@ func TestOpenArguments(t *testing.T) {
 
 func TestNil(t *testing.T) {
 	for _, p := range []*Pager{nil, {}} {
-		_, e := p.Get(1)
+		b, e := p.Get(1)
 		check(t, "get", e, api.ErrArg)
-		_, e = p.Take()
+		n, e := p.Take()
 		check(t, "take", e, api.ErrArg)
+		if b != nil || n != 0 {
+			t.Error(b, n)
+		}
 		for _, e := range []api.Errno{p.Put(1, nil), p.Give(1), p.SetRoot(0, 0), p.Mark(), p.Undo(), p.Commit(), p.Rollback()} {
 			check(t, "call", e, api.ErrArg)
 		}
@@ -449,10 +452,25 @@ func TestOver(t *testing.T) {
 	}
 	_, e = p.Get(99)
 	check(t, "no such page", e, api.ErrNone)
+	b, e := p.Get(a)
+	if len(b) != 0 {
+		t.Error("a content beside an error")
+	}
+	check(t, "get", e, api.ErrDisk)
 	q := open(t, d, 4)
 	if b, e := q.Get(a); string(b) != content508("a") || e != api.OK {
 		t.Error(b, e)
 	}
+	// Where nothing was changed, nothing is written.
+	d.SetFuse(0)
+	check(t, "commit of what was read", q.Commit(), api.OK)
+	d.SetFuse(-1)
+	q.Put(a, []byte("c"))
+	check(t, "commit", q.Commit(), api.OK)
+	d.SetFuse(0)
+	check(t, "commit of what was committed", q.Commit(), api.OK)
+	check(t, "rollback of nothing", q.Rollback(), api.OK)
+	d.SetFuse(-1)
 	// Reading meets it, too.
 	q = open(t, d, 4)
 	d.SetFuse(0)
@@ -475,6 +493,7 @@ type player struct {
 	marked          bool
 	met             bool
 	committing      bool
+	tight           bool // whether the disk may be full
 }
 
 // errs tells whether a call didn't do what it was to do.
@@ -485,6 +504,9 @@ func (y *player) errs(e api.Errno) bool {
 	case api.ErrDisk:
 		y.met = true
 	case api.ErrFull:
+		if !y.tight {
+			y.t.Fatal("full")
+		}
 	default:
 		y.t.Fatal("error", e)
 	}
@@ -546,8 +568,20 @@ func (y *player) commit() {
 	y.committing = true
 	if !y.errs(y.p.Commit()) {
 		y.last, y.marked = y.now.clone(), false
+		y.settled()
 	}
 	y.committing = y.met
+}
+
+// settled asks whether the disk has just the pages: that is so behind each commit and rollback.
+func (y *player) settled() {
+	size := 512 * y.last.pages
+	if y.last.pages == 1 && y.d.Size(0) == 0 {
+		size = 0
+	}
+	if y.d.Size(0) != size || y.d.Size(1) != 0 || y.d.Unsynced() != 0 {
+		y.t.Fatal("sizes", y.d.Size(0), y.d.Size(1), y.d.Unsynced(), size)
+	}
 }
 
 func (y *player) step() {
@@ -572,6 +606,7 @@ func (y *player) step() {
 	case k < 35:
 		if !y.errs(y.p.Rollback()) {
 			y.now, y.marked = y.last.clone(), false
+			y.settled()
 		}
 	case k < 36:
 		y.commit()
@@ -601,7 +636,7 @@ func TestAsTheModel(t *testing.T) {
 	for seed := range 60 {
 		r := rand.New(rand.NewSource(int64(seed)))
 		d := disk.New([]int{1 << 20, 20000, 8000}[seed%3])
-		y := &player{t: t, r: r, d: d, cache: 4 + r.Intn(5), now: empty(), last: empty()}
+		y := &player{t: t, r: r, d: d, cache: 4 + r.Intn(5), now: empty(), last: empty(), tight: seed%3 != 0}
 		y.reopen()
 		for i := range 400 {
 			y.step()
@@ -768,5 +803,276 @@ func TestExample(t *testing.T) {
 	as(t, "behind the crash", open(t, d, 4), w)
 	if d.Size(0) != 1024 || d.Size(1) != 0 {
 		t.Error(d.Size(0), d.Size(1))
+	}
+}
+
+// However much room there is: what isn't done for want of it has changed nothing, and is done once there is enough.
+func TestAnyRoom(t *testing.T) {
+	done := 0
+	for room := 0; room < 16000; room += 61 {
+		d := disk.New(1 << 20)
+		p := open(t, d, 4)
+		old := empty()
+		for range 5 {
+			n := take(t, p, "old")
+			old.used[n], old.pages = content508("old"), n+1
+		}
+		check(t, "commit", p.Commit(), api.OK)
+		d.SetRoom(d.Size(0) + room)
+		w, e := rewriteSome(t, p, old.clone())
+		as(t, "rewritten", p, w)
+		check(t, "mark", p.Mark(), api.OK)
+		if e == api.OK {
+			e = p.Commit()
+		}
+		if e == api.OK {
+			done++
+			as(t, "committed", open(t, d, 4), w)
+			if d.Left() < 0 || d.Size(0) != 512*w.pages || d.Size(1) != 0 {
+				t.Fatal(d.Size(0), d.Size(1))
+			}
+			continue
+		}
+		check(t, "commit", e, api.ErrFull)
+		if p.Over() {
+			t.Fatal("over")
+		}
+		as(t, "not committed", p, w)
+		check(t, "undo", p.Undo(), api.OK)
+		as(t, "undone", p, w)
+		d.SetRoom(1 << 20)
+		check(t, "commit", p.Commit(), api.OK)
+		as(t, "committed", open(t, d, 4), w)
+	}
+	if done < 10 || done > 250 {
+		t.Error("with enough room:", done)
+	}
+}
+
+// rewriteSome changes all pages, and takes new ones, as far as there is room.
+func rewriteSome(t *testing.T, p *Pager, w world) (world, api.Errno) {
+	for n := 1; n < 6; n++ {
+		if e := p.Put(n, []byte("new")); e != api.OK {
+			check(t, "put", e, api.ErrFull)
+			return w, e
+		}
+		w.used[n] = content508("new")
+	}
+	for range 4 {
+		n, e := p.Take()
+		if e != api.OK {
+			check(t, "take", e, api.ErrFull)
+			return w, e
+		}
+		w.used[n], w.pages = content508(""), n+1
+	}
+	return w, api.OK
+}
+
+// The room that a commit takes is that of its journal: two heads, and a record for each page that it writes anew.
+func TestRoomOfCommit(t *testing.T) {
+	for _, c := range []struct{ old, changed, taken int }{{3, 1, 0}, {3, 3, 0}, {3, 0, 1}, {3, 2, 1}} {
+		for _, more := range []int{-1, 0} {
+			d := disk.New(1 << 20)
+			p := open(t, d, 4)
+			for range c.old {
+				take(t, p, "old")
+			}
+			check(t, "commit", p.Commit(), api.OK)
+			for n := range c.changed {
+				check(t, "put", p.Put(n+1, nil), api.OK)
+			}
+			for range c.taken {
+				take(t, p, "")
+			}
+			// The head is written anew, too.
+			d.SetRoom(d.Size(0) + 128 + 576*(1+c.changed) + 512*c.taken + more)
+			want := api.OK
+			if more < 0 {
+				want = api.ErrFull
+			}
+			check(t, "mark", p.Mark(), api.OK)
+			size := d.Size(0)
+			check(t, "commit", p.Commit(), want)
+			if want == api.ErrFull {
+				check(t, "undo", p.Undo(), api.OK)
+				if d.Size(0) != size || d.Size(1) != 0 {
+					t.Error(d.Size(0), d.Size(1))
+				}
+			}
+		}
+	}
+}
+
+// What leaves the cache first takes the journal's heads, and a page behind the head's.
+func TestRoomOfLeaving(t *testing.T) {
+	for _, room := range []int{0, 127, 128, 511, 640, 1023, 1024, 1151, 1152, 1663, 1664} {
+		d := disk.New(room)
+		p := open(t, d, 4)
+		for range 4 {
+			take(t, p, "x")
+		}
+		for more := range 2 {
+			n, e := p.Take()
+			if room >= 1152+512*more {
+				if n != 5+more || e != api.OK {
+					t.Error(room, n, e)
+				}
+				continue
+			}
+			if n != 0 || e != api.ErrFull || more == 0 && d.Size(0)+d.Size(1) != 0 {
+				t.Error(room, n, e, d.Size(0), d.Size(1))
+			}
+		}
+		check(t, "rollback", p.Rollback(), api.OK)
+		if d.Size(0)+d.Size(1) != 0 {
+			t.Error(d.Size(0), d.Size(1))
+		}
+	}
+}
+
+// What leaves the cache again and again takes no more room than it needs at a time.
+func TestRoomIsUsedAgain(t *testing.T) {
+	for _, undo := range []bool{false, true} {
+		d := disk.New(30000)
+		p := open(t, d, 4)
+		w := empty()
+		for range 10 {
+			n := take(t, p, "old")
+			w.used[n], w.pages = content508("old"), n+1
+		}
+		check(t, "commit", p.Commit(), api.OK)
+		for i := range 100 {
+			check(t, "mark", p.Mark(), api.OK)
+			for n := 1; n <= 10; n++ {
+				s := string(rune('a' + (i+n)%26))
+				check(t, "put", p.Put(n, []byte(s)), api.OK)
+				if !undo {
+					w.used[n] = content508(s)
+				}
+			}
+			if undo {
+				check(t, "undo", p.Undo(), api.OK)
+			}
+			as(t, "round", p, w)
+		}
+		check(t, "commit", p.Commit(), api.OK)
+		as(t, "committed", open(t, d, 4), w)
+	}
+}
+
+// What is undone leaves its room to the commit.
+func TestRoomOfUndone(t *testing.T) {
+	d := disk.New(20000)
+	p := open(t, d, 4)
+	n := take(t, p, "old")
+	check(t, "commit", p.Commit(), api.OK)
+	check(t, "put", p.Put(n, []byte("new")), api.OK)
+	check(t, "mark", p.Mark(), api.OK)
+	for {
+		if _, e := p.Take(); e != api.OK {
+			check(t, "take", e, api.ErrFull)
+			break
+		}
+	}
+	check(t, "undo", p.Undo(), api.OK)
+	check(t, "commit", p.Commit(), api.OK)
+	w := empty()
+	w.pages, w.used[n] = 2, content508("new")
+	as(t, "committed", open(t, d, 4), w)
+}
+
+// Heads and free pages whose sums are right may still be such as no pager wrote.
+func TestBadHead(t *testing.T) {
+	build := func() *disk.Disk {
+		d := disk.New(1 << 20)
+		p := open(t, d, 4)
+		for range 5 {
+			take(t, p, "x")
+		}
+		for _, n := range []int{2, 4, 5} {
+			check(t, "give", p.Give(n), api.OK)
+		}
+		check(t, "commit", p.Commit(), api.OK)
+		open(t, d, 4)
+		return d
+	}
+	good := state{pages: 6, free: []int{2, 4, 5}, commits: 1}
+	head := func(change func(s *state)) []byte {
+		s := good.clone()
+		change(&s)
+		return headContent(s)
+	}
+	with := func(b []byte, at int, c byte) []byte {
+		b = slices.Clone(b)
+		b[at] = c
+		return b
+	}
+	for i, c := range []struct {
+		n       int
+		content []byte
+		e       api.Errno
+	}{
+		{0, headContent(good), api.OK}, {0, head(func(s *state) { s.roots[7] = 9999 }), api.OK}, {0, head(func(s *state) { s.commits = 1 << 60 }), api.OK}, {2, freeContent(0), api.OK},
+		{0, head(func(s *state) { s.roots[7] = 10000 }), api.ErrBad}, {0, head(func(s *state) { s.roots[0] = 10000 }), api.ErrBad}, {0, head(func(s *state) { s.pages = 5 }), api.ErrBad}, {0, head(func(s *state) { s.pages = 7 }), api.ErrBad}, {0, head(func(s *state) { s.pages = 0 }), api.ErrBad}, {0, head(func(s *state) { s.free = []int{1, 2, 4, 5} }), api.ErrBad}, {0, head(func(s *state) { s.free = []int{1, 2, 3, 4, 5, 5} }), api.ErrBad}, {0, head(func(s *state) { s.free = make([]int, 1<<20) }), api.ErrBad}, {0, head(func(s *state) { s.free[2] = 6 }), api.ErrBad}, {0, head(func(s *state) { s.free[2] = 1 }), api.ErrBad}, {0, head(func(s *state) { s.free = []int{5} }), api.ErrBad},
+		{0, with(headContent(good), 0, 'W'), api.ErrBad}, {0, with(headContent(good), 507, 1), api.ErrBad}, {0, with(headContent(good), 60, 1), api.ErrBad}, {0, nil, api.ErrBad}, {0, make([]byte, 508), api.ErrBad},
+		{5, freeContent(5), api.ErrBad}, {5, freeContent(2), api.ErrBad}, {4, freeContent(5), api.ErrBad}, {2, freeContent(3), api.ErrBad}, {5, freeContent(6), api.ErrBad}, {5, freeContent(1 << 30), api.ErrBad}, {5, freeContent(0), api.ErrBad}, {5, with(freeContent(4), 4, 1), api.ErrBad}, {5, with(freeContent(4), 507, 1), api.ErrBad}, {2, with(freeContent(0), 9, 1), api.ErrBad},
+	} {
+		d := build()
+		check(t, "write", d.Write(0, 512*c.n, page(c.n, padded(c.content))), api.OK)
+		p, e := Open(d, 4)
+		if e != c.e || (p == nil) != (e != api.OK) {
+			t.Error(i, e)
+		}
+	}
+}
+
+func TestTooManyPages(t *testing.T) {
+	for _, c := range []struct {
+		pages int
+		e     api.Errno
+	}{{api.MaxPages, api.OK}, {api.MaxPages + 1, api.ErrBad}} {
+		d := disk.New(1 << 30)
+		check(t, "write", d.Write(0, 0, make([]byte, 512*c.pages)), api.OK)
+		check(t, "write", d.Write(0, 0, page(0, headContent(state{pages: c.pages}))), api.OK)
+		if _, e := Open(d, 4); e != c.e {
+			t.Error(c, e)
+		}
+	}
+}
+
+// A journal by layer 10's bytes leads back to what it tells, the first record of a page counting.
+func TestJournal(t *testing.T) {
+	d := disk.New(1 << 20)
+	p := open(t, d, 4)
+	n := take(t, p, "first")
+	check(t, "commit", p.Commit(), api.OK)
+	old, _ := d.Read(0, 0, d.Size(0))
+	p.Put(n, []byte("second"))
+	take(t, p, "third")
+	check(t, "commit", p.Commit(), api.OK)
+	now, _ := d.Read(0, 0, d.Size(0))
+	b, _ := journal.Head(77, 2, 4)
+	b = slices.Concat(make([]byte, 64), b)
+	for _, r := range []struct {
+		n    int
+		data []byte
+	}{{1, old[512:]}, {0, old[:512]}, {2, bytes.Repeat([]byte{7}, 512)}, {1, now[512:1024]}} {
+		record, _ := journal.Record(77, r.n, r.data)
+		b = append(b, record...)
+	}
+	check(t, "write", d.Write(1, 0, b), api.OK)
+	w := empty()
+	w.pages, w.used[n] = 2, content508("first")
+	as(t, "restored", open(t, d, 4), w)
+	if d.Size(0) != 1024 || d.Size(1) != 0 || d.Unsynced() != 0 {
+		t.Error(d.Size(0), d.Size(1), d.Unsynced())
+	}
+	as(t, "opened twice", open(t, d, 4), w)
+	// What tells nothing is nothing.
+	check(t, "write", d.Write(1, 0, bytes.Repeat([]byte{7}, 900)), api.OK)
+	as(t, "junk", open(t, d, 4), w)
+	if d.Size(1) != 0 {
+		t.Error("junk is left")
 	}
 }

@@ -318,21 +318,19 @@ func TestDrop(t *testing.T) {
 	check(t, "dropped twice", Drop(p, root), api.ErrNone)
 }
 
-// errors are what all calls answer of one root.
-func errors(p *pager.Pager, root int) []api.Errno {
-	var l []api.Errno
-	_, _, e := Get(p, root, []byte("a"))
-	l = append(l, e, Put(p, root, []byte("a"), nil), Put(p, root, nil, nil), Put(p, root, []byte("a"), make([]byte, 200)))
-	_, e = Delete(p, root, []byte("a"))
-	l = append(l, e)
-	_, _, _, e = Next(p, root, nil, true)
-	l = append(l, e)
-	_, _, _, e = Prev(p, root, []byte("a"), true)
-	l = append(l, e)
-	_, _, _, e = Last(p, root)
-	l = append(l, e, Drop(p, root))
-	_, e = Pages(p, root)
-	return append(l, e)
+// errors are what all calls answer of one root; beside them they answer nothing.
+func errors(t *testing.T, p *pager.Pager, root int) []api.Errno {
+	t.Helper()
+	value, ok, a := Get(p, root, []byte("a"))
+	gone, b := Delete(p, root, []byte("a"))
+	nextKey, nextValue, isNext, c := Next(p, root, nil, true)
+	prevKey, prevValue, isPrev, d := Prev(p, root, []byte("a"), true)
+	lastKey, lastValue, isLast, e := Last(p, root)
+	pages, f := Pages(p, root)
+	if value != nil || nextKey != nil || nextValue != nil || prevKey != nil || prevValue != nil || lastKey != nil || lastValue != nil || pages != nil || ok || gone || isNext || isPrev || isLast {
+		t.Error("something beside an error")
+	}
+	return []api.Errno{a, b, c, d, e, f, Put(p, root, []byte("a"), nil), Put(p, root, nil, nil), Put(p, root, []byte("a"), make([]byte, 200)), Drop(p, root)}
 }
 
 func all(t *testing.T, what string, l []api.Errno, want api.Errno) {
@@ -345,24 +343,27 @@ func all(t *testing.T, what string, l []api.Errno, want api.Errno) {
 }
 
 func TestErrors(t *testing.T) {
-	_, e := Create(nil)
-	all(t, "nil", append(errors(nil, 1), e), api.ErrArg)
+	n, e := Create(nil)
+	if n != 0 {
+		t.Error(n)
+	}
+	all(t, "nil", append(errors(t, nil, 1), e), api.ErrArg)
 	p, root := newTree(t)
 	for _, n := range []int{0, -1, root + 1, 1 << 40} {
-		all(t, "no page", errors(p, n), api.ErrNone)
+		all(t, "no page", errors(t, p, n), api.ErrNone)
 	}
 	for _, b := range []string{"", "\x03", "\x01\x01", "\x02\x00\x01", "junk"} {
 		n, _ := p.Take()
 		p.Put(n, []byte(b))
-		all(t, "no node", errors(p, n), api.ErrBad)
+		all(t, "no node", errors(t, p, n), api.ErrBad)
 		// So it is where an inner node leads to one.
 		inner, _ := p.Take()
 		bytes, _ := node.Encode(node.Node{Keys: [][]byte{[]byte("b")}, Kids: []int{n, n}})
 		p.Put(inner, bytes)
-		all(t, "leads to no node", errors(p, inner), api.ErrBad)
+		all(t, "leads to no node", errors(t, p, inner), api.ErrBad)
 		bytes, _ = node.Encode(node.Node{Keys: [][]byte{[]byte("b")}, Kids: []int{7777, 7777}})
 		p.Put(inner, bytes)
-		all(t, "leads to no page", errors(p, inner), api.ErrNone)
+		all(t, "leads to no page", errors(t, p, inner), api.ErrNone)
 	}
 	d := disk.New(1 << 20)
 	q, _ := pager.Open(d, 4)
@@ -370,7 +371,7 @@ func TestErrors(t *testing.T) {
 	d.SetFuse(0)
 	check(t, "commit", q.Commit(), api.ErrDisk)
 	_, e = Create(q)
-	all(t, "over", append(errors(q, root), e), api.ErrDisk)
+	all(t, "over", append(errors(t, q, root), e), api.ErrDisk)
 	q, _ = pager.Open(disk.New(0), 4)
 	for range 4 {
 		q.Take()
@@ -393,7 +394,38 @@ func TestRings(t *testing.T) {
 		p.Put(n, b)
 	}
 	for _, n := range pages {
-		all(t, "ring", errors(p, n), api.ErrBad)
+		all(t, "ring", errors(t, p, n), api.ErrBad)
+	}
+}
+
+// Where nodes of two kinds stand side by side, they are no tree; but all calls end.
+func TestMixedKinds(t *testing.T) {
+	p := newPager(t, 10)
+	put := func(n node.Node) int {
+		page, e := p.Take()
+		check(t, "take", e, api.OK)
+		b, e := node.Encode(n)
+		check(t, "encode", e, api.OK)
+		check(t, "put", p.Put(page, b), api.OK)
+		return page
+	}
+	list := func(s ...string) [][]byte {
+		var l [][]byte
+		for _, k := range s {
+			l = append(l, []byte(k))
+		}
+		return l
+	}
+	one := put(node.Node{Leaf: true, Keys: list("a"), Values: list("1")})
+	two := put(node.Node{Leaf: true, Keys: list("c"), Values: list("2")})
+	three := put(node.Node{Leaf: true, Keys: list("e"), Values: list("3")})
+	inner := put(node.Node{Keys: list("d"), Kids: []int{two, three}})
+	root := put(node.Node{Keys: list("b"), Kids: []int{one, inner}})
+	if ok, e := Delete(p, root, []byte("a")); ok || e != api.ErrBad {
+		t.Error(ok, e)
+	}
+	if value, ok, e := Get(p, root, []byte("e")); string(value) != "3" || !ok || e != api.OK {
+		t.Error(value, ok, e)
 	}
 }
 
