@@ -13,7 +13,7 @@ import (
 
 func name(s string) Word { return Word{Kind: 1, Text: s} }
 
-func number(n int64) Word { return Word{Kind: 2, N: n} }
+func number(n int64) Word { return Word{Kind: 2, Text: strconv.FormatInt(n, 10), N: n} }
 
 func text(s string) Word { return Word{Kind: 3, Text: s} }
 
@@ -116,6 +116,23 @@ func TestWords(t *testing.T) {
 	}
 }
 
+// A number is a word as the others are: what is written of it is its Text.
+func TestNumbers(t *testing.T) {
+	for s, want := range map[string][]Word{
+		"7":                   {{Kind: 2, Text: "7", N: 7}},
+		"0":                   {{Kind: 2, Text: "0"}},
+		"9223372036854775807": {{Kind: 2, Text: "9223372036854775807", N: math.MaxInt64}},
+		"- -0":                {{Kind: 4, Text: "-"}, {Kind: 4, Text: "-"}, {Kind: 2, Text: "0"}},
+		"a<=1--x\n;":          {{Kind: 1, Text: "a"}, {Kind: 4, Text: "<="}, {Kind: 2, Text: "1", N: 1}, {Kind: 4, Text: ";"}},
+		"'12'12":              {{Kind: 3, Text: "12"}, {Kind: 2, Text: "12", N: 12}},
+		"a10 10.90":           {{Kind: 1, Text: "a10"}, {Kind: 2, Text: "10", N: 10}, {Kind: 4, Text: "."}, {Kind: 2, Text: "90", N: 90}},
+	} {
+		if got, e := Words(s); !slices.Equal(got, want) || e != api.OK {
+			t.Errorf("%q: %v %d", s, got, e)
+		}
+	}
+}
+
 func TestSyntax(t *testing.T) {
 	for _, s := range []string{
 		"01", "00", "1a", "1_", "1α", "'a", "'", "'''", "'a''", "9223372036854775808", "99999999999999999999999", "é", "aé", "1é", "\xff", "a\xff", "a\r", "\x00", "!", "a!=b", "\"a\"", "a/b", "[", "{", "&", "%", "a\x0b", "\u00a0",
@@ -151,12 +168,9 @@ func TestLong(t *testing.T) {
 func written(words []Word) string {
 	var b strings.Builder
 	for _, w := range words {
-		switch w.Kind {
-		case 2:
-			b.WriteString(strconv.FormatInt(w.N, 10))
-		case 3:
+		if w.Kind == 3 {
 			b.WriteString("'" + strings.ReplaceAll(w.Text, "'", "''") + "'")
-		default:
+		} else {
 			b.WriteString(w.Text)
 		}
 		b.WriteByte(' ')
