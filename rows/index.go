@@ -67,6 +67,8 @@ func Seek(p *pager.Pager, t Table, index int, values []api.Value) ([]int64, api.
 	x := t.Indexes[index]
 	prefix, e := keys.Key(values)
 	if e != api.OK {
+		// Values that aren't formed are those of no row, but the tree's errors are told for them, too.
+		_, _, _, e = tree.Next(p, x.Root, nil, true)
 		return nil, e
 	}
 	var list []int64

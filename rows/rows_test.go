@@ -299,9 +299,31 @@ func TestSeek(t *testing.T) {
 	for _, c := range []struct {
 		index  int
 		values []api.Value
-	}{{-1, of("x")}, {2, of("x")}, {math.MaxInt, of("x")}, {0, nil}, {0, of("x 5 1")}, {1, of("c1 1")}, {0, row(api.Value{Kind: 3})}} {
+	}{{-1, of("x")}, {2, of("x")}, {math.MaxInt, of("x")}, {0, nil}, {0, of("x 5 1")}, {1, of("c1 1")}, {2, row(api.Value{Kind: 3})}, {1, row(api.Value{Kind: 3}, num(1))}} {
 		if got, e := Seek(p, table, c.index, c.values); got != nil || e != api.ErrArg {
 			t.Error(c, got, e)
+		}
+	}
+}
+
+// Values that aren't formed are those of no row, whatever lies there.
+func TestSeekUnformed(t *testing.T) {
+	p, table := newTable(t, Index{Keys: []int{1, 0}})
+	empty, nothing := newTable(t, Index{Keys: []int{1, 0}})
+	for i, s := range []string{"5 x", "N x", "0 x", "N N", "1 N"} {
+		insert(t, p, table, s+" c"+strconv.Itoa(i))
+	}
+	for i, values := range [][]api.Value{
+		{{N: 1}}, {{S: "x"}}, {{Kind: api.Int, N: 5, S: "x"}}, {{Kind: api.Text, N: 5, S: "x"}}, {{Kind: 3}}, {{Kind: -1}}, {{Kind: math.MaxInt, S: "x"}}, {{Kind: api.Text, S: strings.Repeat("x", api.MaxText+1)}},
+		{text("x"), {N: 1}}, {text("x"), {S: "x"}}, {text("x"), {Kind: api.Int, S: "x"}}, {text("x"), {Kind: 3}}, {{S: "x"}, num(5)}, {{}, {N: 1}}, {{Kind: 3}, {Kind: 3}},
+	} {
+		for _, at := range []struct {
+			p *pager.Pager
+			t Table
+		}{{p, table}, {empty, nothing}} {
+			if got, e := Seek(at.p, at.t, 0, values); len(got) != 0 || e != api.OK {
+				t.Error(i, got, e)
+			}
 		}
 	}
 }
@@ -345,10 +367,11 @@ func errors(t *testing.T, p *pager.Pager, table Table) []api.Errno {
 	values, there, c := Get(p, table, 1)
 	list, d := All(p, table)
 	numbers, e := Seek(p, table, 0, of("1"))
-	if id != 0 || gone || values != nil || there || list != nil || numbers != nil {
+	none, f := Seek(p, table, 0, row(api.Value{N: 1}))
+	if id != 0 || gone || values != nil || there || list != nil || numbers != nil || none != nil {
 		t.Error("something beside an error")
 	}
-	return []api.Errno{a, b, c, d, e, Put(p, table, Row{1, of("1 x y")}), Build(p, table, 0)}
+	return []api.Errno{a, b, c, d, e, f, Put(p, table, Row{1, of("1 x y")}), Build(p, table, 0)}
 }
 
 func TestErrors(t *testing.T) {
