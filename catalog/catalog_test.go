@@ -160,6 +160,32 @@ func TestDecodeWrong(t *testing.T) {
 	}
 }
 
+// An index is formed, if its keys are not below 0 and all different. Whether they are columns' numbers is asked where its
+// table is known: by Add.
+func TestKeyOfNoColumn(t *testing.T) {
+	full := New()
+	check(t, "add", full.Add(table("t", eight()...)), api.OK)
+	for key, want := range map[int]api.Errno{0: api.OK, 7: api.OK, 8: api.ErrName, 9: api.ErrName, math.MaxInt: api.ErrName} {
+		o := Object{Kind: 2, Name: "i", On: "t", Keys: []int{key}, Unique: true, Root: 5}
+		if !Formed(o) {
+			t.Error(key, "isn't formed")
+		}
+		pieces, e := Encode(o)
+		check(t, "encode", e, api.OK)
+		if back, e := Decode(pieces); !same(back, o) || e != api.OK {
+			t.Error(key, back, e)
+		}
+		check(t, "add without a table", New().Add(o), api.ErrNone)
+		check(t, "add", full.Add(o), want)
+		full.Drop(2, "i")
+	}
+	o := Object{Kind: 2, Name: "i", On: "t", Keys: []int{-1}, Unique: true, Root: 5}
+	if _, e := Encode(o); Formed(o) || e != api.ErrArg {
+		t.Error("a key below 0", e)
+	}
+	check(t, "add a key below 0", full.Add(o), api.ErrArg)
+}
+
 // names are those of a list of objects.
 func names(l []Object) string {
 	var s []string
